@@ -597,3 +597,22 @@ func TestApart(t *testing.T) {
 	one.Restart()
 	has(t, one, map[string]string{"f": "of one"})
 }
+
+// TestZeroDisk: a disk that was not made by New has no room, but files (R2).
+func TestZeroDisk(t *testing.T) {
+	for _, x := range operations(t) {
+		d := &disk.Disk{}
+		if err := x.call(d, "f"); err == api.ErrDown {
+			t.Errorf("%s: %v", x.name, err)
+		}
+	}
+	d := &disk.Disk{}
+	must(t, d.Create("f"), d.Rename("f", "g"), d.Sync("g"))
+	if err := d.Append("g", []byte("x")); err != api.ErrSpace {
+		t.Errorf("Append: %v", err)
+	}
+	has(t, d, map[string]string{"g": ""})
+	d.Crash(nil)
+	d.Restart()
+	has(t, d, map[string]string{"g": ""})
+}
